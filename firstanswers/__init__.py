@@ -1,0 +1,1 @@
+"""Firstanswers: learning machines with weights from their first answers."""
