@@ -53,14 +53,12 @@ class Field:
     def plus(self, one, other):
         """The sum of two numbers."""
         self._check([one, other])
-        (top, bottom), (above, below) = parts(one), parts(other)
-        return self.ratio(top * below + above * bottom, bottom * below)
+        return self.sum_of(one, other)
 
     def minus(self, one, other):
         """The first number without the second one."""
         self._check([one, other])
-        (top, bottom), (above, below) = parts(one), parts(other)
-        return self.ratio(top * below - above * bottom, bottom * below)
+        return self.difference_of(one, other)
 
     def times(self, one, other):
         """The product of two numbers."""
@@ -72,8 +70,7 @@ class Field:
         self._check([one, other])
         if other == 0:
             raise NoQuotient()
-        (top, bottom), (above, below) = parts(one), parts(other)
-        return self.ratio(top * below, bottom * above)
+        return self.quotient_of(one, other)
 
     def total(self, *numbers):
         """The sum of all the numbers."""
@@ -111,10 +108,25 @@ class Field:
             return top % self._prime
         return top * inverse(bottom, self._prime) % self._prime
 
+    def sum_of(self, one, other):
+        """The sum of two numbers of any size."""
+        (top, bottom), (above, below) = parts(one), parts(other)
+        return self.ratio(top * below + above * bottom, bottom * below)
+
+    def difference_of(self, one, other):
+        """The first number without the second one, of any size."""
+        (top, bottom), (above, below) = parts(one), parts(other)
+        return self.ratio(top * below - above * bottom, bottom * below)
+
     def product_of(self, one, other):
         """The product of two numbers of any size."""
         (top, bottom), (above, below) = parts(one), parts(other)
         return self.ratio(top * above, bottom * below)
+
+    def quotient_of(self, one, other):
+        """The first number divided by the second one, which is not 0, of any size."""
+        (top, bottom), (above, below) = parts(one), parts(other)
+        return self.ratio(top * below, bottom * above)
 
     def negative_of(self, number):
         """Zero without a number of any size."""

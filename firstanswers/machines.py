@@ -119,11 +119,11 @@ class Machine:
 
     def __add__(self, other):
         self._check_partner(other, self.size + other.size)
-        return self._beside(other, other.ends)
+        return self.beside(other, other.ends)
 
     def __sub__(self, other):
         self._check_partner(other, self.size + other.size)
-        return self._beside(other, [self._field.negative_of(number) for number in other.ends])
+        return self.beside(other, [self._field.negative_of(number) for number in other.ends])
 
     def __mul__(self, other):
         self._check_partner(other, self.size * other.size)
@@ -132,6 +132,12 @@ class Machine:
             field, self._letters, crossed_row(field, self._start, other.start),
             {letter: crossed_table(field, self._tables[letter], others[letter]) for letter in self._letters},
             crossed_row(field, self._ends, other.ends))
+
+    def beside(self, other, ends):
+        """Both machines side by side, the other one with these end numbers, whatever their number of states."""
+        link, others = zero_table(self.size, other.size), other.tables
+        tables = {letter: joined_table(self._tables[letter], others[letter], link) for letter in self._letters}
+        return worked(self._field, self._letters, [*self._start, *other.start], tables, [*self._ends, *ends])
 
     def scaled(self, number):
         """A machine whose values are these, times the number."""
@@ -243,12 +249,6 @@ class Machine:
 
     def _with_ends(self, ends):
         return worked(self._field, self._letters, self._start, self._tables, ends)
-
-    def _beside(self, other, ends):
-        """Both machines side by side, the other one with these end numbers."""
-        link, others = zero_table(self.size, other.size), other.tables
-        tables = {letter: joined_table(self._tables[letter], others[letter], link) for letter in self._letters}
-        return worked(self._field, self._letters, [*self._start, *other.start], tables, [*self._ends, *ends])
 
 
 def worked(field, letters, start, tables, ends):

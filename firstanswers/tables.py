@@ -6,6 +6,8 @@ by steps needs nothing but integers: shortening fractions of thousands of digits
 Modulo a prime, the bottom is 1, and the integers stay below the prime.
 """
 
+from math import gcd
+
 
 def step_of(field, table):
     """The step of a square table."""
@@ -65,6 +67,32 @@ def numbers_of(field, row):
 def turned_table(table):
     """The table with its columns as rows."""
     return [list(column) for column in zip(*table)]
+
+
+def content_of(numbers):
+    """The greatest common divisor of integers, 0 if all of them are 0."""
+    divisor = 0
+    for number in numbers:
+        divisor = gcd(divisor, number)
+        if divisor == 1:
+            break
+    return divisor
+
+
+def shortened_row(row):
+    """The whole row with the least bottom."""
+    tops, bottom = row
+    divisor = gcd(content_of(tops), bottom) if bottom != 1 else 1
+    return (tops, bottom) if divisor == 1 else ([top // divisor for top in tops], bottom // divisor)
+
+
+def primitive(field, row):
+    """Integers without a common divisor, and the number with which they are this whole row."""
+    tops, bottom = row
+    content = content_of(tops) if field.prime is None else 1
+    if content > 1:
+        tops = [top // content for top in tops]
+    return list(tops), field.ratio(max(content, 1), bottom)
 
 
 def unit_row(size, place):

@@ -30,6 +30,10 @@ def is_plain_integer(value):
     return type(value) is int
 
 
+def is_word(value, letters):
+    return type(value) is str and len(value) <= 160 and all(letter in letters for letter in value)
+
+
 def fraction_of(number):
     """The Fraction for a number of the fractions."""
     return Fraction(*number) if isinstance(number, tuple) else Fraction(number)

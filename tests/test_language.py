@@ -191,6 +191,17 @@ class LanguageTests(unittest.TestCase):
                     for node in nodes(function, ast.Call):
                         self.assertNotIn(getattr(node.func, "attr", ""), MODIFYING)
 
+    def test_items_come_with_iteration(self):
+        for _, _, tree in self.each():
+            for made in nodes(tree, ast.ClassDef):
+                names = [node.name for node in made.body if isinstance(node, ast.FunctionDef)]
+                self.assertEqual("__getitem__" in names, "__iter__" in names)
+
+    def test_caught_errors(self):
+        for _, _, tree in self.each():
+            for handler in nodes(tree, ast.ExceptHandler):
+                self.assertIn(getattr(handler.type, "id", ""), ("KeyError", "ZeroDivisionError", "NoQuotient"))
+
     def test_generators_are_iterated_at_once(self):
         generators, functions = [], []
         for _, _, tree in self.each():

@@ -8,52 +8,8 @@ from firstanswers.errors import NoQuotient, OtherField, OtherLetters, TooMany
 from firstanswers.fields import Fractions, Modulo
 from firstanswers.machines import Machine
 from firstanswers.orders import Order
-from support import Checks, all_words, any_values, fraction_of, is_plain_integer, number_of, same_kind
-
-FIELDS = [Fractions(), Modulo(2), Modulo(7), Modulo(999999937)]
-
-
-def random_number(field, chance):
-    if field.prime is not None:
-        return chance.randrange(field.prime)
-    return number_of(Fraction(chance.randint(-6, 6), chance.choice([1, 1, 1, 2, 3, 4])))
-
-
-def random_machine(field, letters, size, chance):
-    def row():
-        return [random_number(field, chance) for _ in range(size)]
-    return Machine(field, letters, row(), {letter: [row() for _ in range(size)] for letter in letters}, row())
-
-
-def plain(field, number):
-    return fraction_of(number) if field.prime is None else number
-
-
-def kept(field, value):
-    """The number of the field for a plain sum of products."""
-    return number_of(Fraction(value)) if field.prime is None else value % field.prime
-
-
-def plain_state(machine, word):
-    field = machine.field
-    row = [plain(field, number) for number in machine.start]
-    for letter in word:
-        table = machine.tables[letter]
-        row = [sum((row[i] * plain(field, table[i][j]) for i in range(machine.size)), 0) for j in range(machine.size)]
-        if field.prime is not None:
-            row = [number % field.prime for number in row]
-    return row
-
-
-def plain_value(machine, word):
-    """The value by plain products, a Fraction or an integer."""
-    ends = [plain(machine.field, number) for number in machine.ends]
-    return sum((x * y for x, y in zip(plain_state(machine, word), ends)), 0)
-
-
-def is_word(value, letters):
-    return type(value) is str and len(value) <= 160 and all(letter in letters for letter in value)
-
+from plain import FIELDS, kept, plain, plain_state, plain_value, random_machine, random_number
+from support import Checks, all_words, any_values, fraction_of, is_plain_integer, is_word, same_kind
 
 def counts_machine():
     return Machine(Fractions(), "ab", [1, 0], {"a": [[1, 1], [0, 1]], "b": [[1, 0], [0, 1]]}, [0, 1])

@@ -4,7 +4,7 @@ import unittest
 
 from firstanswers.errors import InvalidCost, InvalidCount, InvalidLetters, InvalidWord, OutOfRange
 from firstanswers.orders import Order
-from support import Checks, all_words, any_values, is_plain_integer, listed
+from support import Checks, all_words, any_values, is_plain_integer, is_word, listed
 
 COSTS = [
     {"a": 1}, {"q": 9}, {"a": 1, "b": 1}, {"a": 1, "b": 2}, {"a": 2, "b": 1}, {"a": 9, "b": 1}, {"a": 6, "z": 4},
@@ -35,10 +35,6 @@ def place(costs, word):
 
 def taken(generator, many):
     return list(itertools.islice(generator, many))
-
-
-def is_word(value, letters):
-    return type(value) is str and len(value) <= 160 and all(letter in letters for letter in value)
 
 
 class MakingTests(Checks, unittest.TestCase):
