@@ -1,6 +1,6 @@
 """Rows of integers, of which none is a combination of the others."""
 
-from firstanswers.fields import inverse
+from firstanswers.fields import inverse, parts
 from firstanswers.tables import primitive, unit_row
 
 
@@ -71,12 +71,14 @@ def solved(field, rows, targets):
     scales = []
     for at, row in enumerate(rows):
         tops, scale = primitive(field, row)
-        scales.append(scale)
+        scales.append(parts(scale))
         echelon.takes(tops + unit_row(many + 1, at))
     found = []
     for target in targets:
         tops, scale = primitive(field, target)
+        above, below = parts(scale)
         marks = echelon.rest_of(tops + unit_row(many + 1, many))[width:]
-        found.append([field.quotient_of(field.product_of(scale, field.ratio(-mark, marks[many])), each)
-                      for mark, each in zip(marks, scales)])
+        # One ratio of all factors is shortened once: the marks may have very many digits.
+        found.append([field.ratio(-mark * above * under, marks[many] * below * over)
+                      for mark, (over, under) in zip(marks, scales)])
     return found

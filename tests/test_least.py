@@ -498,6 +498,16 @@ class WordsTests(Checks, unittest.TestCase):
             self.assertEqual([1000, ("", 1)], [len(fewer), fewer[0]])
             self.assertNotIn("aaaa", dict(fewer))
 
+    def test_1000_and_1001_of_one_length(self):
+        for field in FIELDS:
+            parts = [self.chain(field, "abc", "abcd", "abcd", "abcd", "abcd"), self.chain(field, "d", "abc", "abcd", "abcd", "abcd"),
+                     self.chain(field, "d", "d", "ab", "abcd", "abcd"), self.chain(field, "d", "d", "c", "ab", "abcd")]
+            machine = parts[0] + parts[1] + parts[2] + parts[3]
+            found = words_of(machine, Order("abcd"))
+            self.assertEqual([1000, {5}], [len(found), {len(word) for word, _ in found}])
+            more = least(machine, Order("abcd")) + Machine.of_word(field, "abcd", "ddddd")
+            self.assert_raises(TooMany, {"limit": 1000}, words_of, more, Order("abcd"))
+
     def test_very_many_words(self):
         for field in (Fractions(), Modulo(2)):
             machine = self.chain(field, *["abcd"] * 23)
