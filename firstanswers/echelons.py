@@ -29,6 +29,16 @@ class Echelon:
         self._keep(min(places, key=lambda place: abs(rest[place])), rest)
         return True
 
+    def first_place(self, row):
+        """Keep the row, which is not a combination of those that are kept; the first place of what is left of it.
+
+        If all rows are kept in this way, it is the first place up to which the row is not a combination of others.
+        """
+        rest = self.rest_of(row)
+        place = min([at for at in range(self._width) if rest[at] != 0])
+        self._keep(place, rest)
+        return place
+
     def rest_of(self, row):
         """Some times (not 0 times) the row, without a combination of the rows that are kept.
 

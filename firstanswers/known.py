@@ -57,6 +57,14 @@ class Known:
         """A dict from the known words, in order, to their answers."""
         return dict(self._told)
 
+    def answer_to(self, word):
+        """The answer to a word, None if it is not known."""
+        return self._told.get(word)
+
+    def count_known(self):
+        """How many words are known."""
+        return len(self._told)
+
     def sizes(self):
         """The sizes after 0, 1, 2, .. of the answers."""
         return list(self._sizes)
@@ -111,6 +119,11 @@ class Known:
         if self._owner(word[:at], word[at:]) is not None:
             return None
         return self._sum_at(self._combinations[word[:at]], word[at:])
+
+    def is_sure(self, most):
+        """Whether any other answer to the next word than the forced one makes the size greater than this."""
+        forced = self.forced_prefixes()
+        return len(forced) > 0 and len(self._entries) + len(forced) > most
 
     def forced_prefixes(self):
         """The prefixes of the next word that are forced, the shortest one first."""

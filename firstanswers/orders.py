@@ -63,6 +63,10 @@ class Order:
     def number_of(self, word):
         """How many words are before this one."""
         self._check(word)
+        return self.count_before(word)
+
+    def count_before(self, word):
+        """How many words are before this one, however long it is."""
         rest = self._cost_of(word)
         counts = self._counts(rest)
         number = sum(counts[:rest])
@@ -72,15 +76,19 @@ class Order:
             rest -= self._costs[letter]
         return number
 
+    def place_of(self, word):
+        """What words, however long they are, are ordered by."""
+        return self._cost_of(word), word
+
     def is_before(self, word, other):
         """Whether the first word is before the second one."""
         self._check(word, other)
-        return self._place(word) < self._place(other)
+        return self.place_of(word) < self.place_of(other)
 
     def sorted_words(self, *words):
         """These words, ascending, without duplicates."""
         self._check(*words)
-        places = sorted({self._place(word) for word in words})
+        places = sorted({self.place_of(word) for word in words})
         return [word for _, word in places]
 
     def word_at(self, number):
@@ -128,7 +136,7 @@ class Order:
     def spread(self, first, last):
         """The words from the first to the last one, both included."""
         self._check(first, last)
-        if self._place(last) < self._place(first):
+        if self.place_of(last) < self.place_of(first):
             return
         for word in self.words(first):
             yield word
@@ -142,9 +150,6 @@ class Order:
 
     def _cost_of(self, word):
         return sum([self._costs[letter] for letter in word])
-
-    def _place(self, word):
-        return self._cost_of(word), word
 
     def _next_count(self, counts):
         """How many words have the cost behind the counted ones."""

@@ -1,7 +1,7 @@
 """The names, arguments and kinds of what the document lists, each in its own file and class."""
 
-import inspect
 import importlib
+import inspect
 import unittest
 
 FUNCTIONS = {
@@ -12,6 +12,16 @@ FUNCTIONS = {
     },
     "papers": {
         "bound_paper": "answers", "rows_of": "answers value", "jump_paper": "answers", "rows_after": "answers value",
+    },
+    "futures": {
+        "other_size": "answers", "other_machine": "answers", "is_open": "machine order word most",
+        "open_words": "machine order most", "last_open": "machine order most", "enough": "machine order most",
+        "latest_needed": "order most", "late_machine": "field order most", "within": "answers most",
+    },
+    "learners": {"lesson": "machine order most"},
+    "texts": {
+        "write_order": "order", "read_order": "text", "write_machine": "machine", "read_machine": "text",
+        "write_answers": "answers", "read_answers": "text",
     },
 }
 CLASSES = {
@@ -53,6 +63,19 @@ CLASSES = {
             "__init__": "answers", "form": "*coordinates", "at": "coordinates", "coordinates_of": "machine", "forms": "",
             "has": "value", "sure": "word", "answers": None, "free": None, "dimension": None, "series_count": None},
     },
+    "learners": {
+        "Learner": {
+            "__init__": "field order most", "answer": "number", "tell": "word number", "undo": "count", "redo": "count",
+            "attempt": "action", "explore": "action", "copied": "", "field": None, "order": None, "most": None,
+            "question": None, "is_done": None, "asked": None, "numbers": None, "size": None, "machine": None,
+            "steps": None, "undone": None},
+        "CountingLearner": {
+            "__init__": "field order most", "answer": "number", "tell": "word number", "copied": "", "spent": None},
+        "LimitedLearner": {
+            "__init__": "field order most allowed", "answer": "number", "tell": "word number", "allowed": None},
+        "Teacher": {"__init__": "machine", "answer": "word", "teach": "learner", "told": None},
+    },
+    "desks": {"Desk": {"__init__": "", "say": "row", "answers": None}},
 }
 
 
