@@ -30,14 +30,17 @@ class Echelon:
         return True
 
     def first_place(self, row):
-        """Keep the row, which is not a combination of those that are kept; the first place of what is left of it.
+        """Keep the row if it is not a combination of those that are kept; the first place of what is left of it.
 
-        If all rows are kept in this way, it is the first place up to which the row is not a combination of others.
+        None if nothing is left. If all rows are kept in this way, the row is not a combination of others up to this
+        place, but up to all places before it.
         """
         rest = self.rest_of(row)
-        place = min([at for at in range(self._width) if rest[at] != 0])
-        self._keep(place, rest)
-        return place
+        for place in range(self._width):
+            if rest[place] != 0:
+                self._keep(place, rest)
+                return place
+        return None
 
     def rest_of(self, row):
         """Some times (not 0 times) the row, without a combination of the rows that are kept.

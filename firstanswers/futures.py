@@ -17,22 +17,16 @@ MOST_SERIES = 300
 
 def other_size(answers):
     """The least size of a machine that agrees and has another series than the first one of the space."""
-    space = Space(answers)
-    if space.dimension > 0:
-        return answers.size
     _, forced = parting_of(answers)
     return answers.size + len(forced)
 
 
 def other_machine(answers):
     """A machine with so many states."""
-    space = Space(answers)
-    if space.dimension > 0:
-        return space.at([0] * (space.dimension - 1) + [1])
     word, forced = parting_of(answers)
     if answers.size + len(forced) > MOST_STATES:
         raise TooMany(MOST_STATES)
-    return parted(answers, space.form(), word, forced)
+    return parted(answers, Space(answers).form(), word, forced)
 
 
 def is_open(machine, order, word, most):
@@ -117,9 +111,9 @@ def pairs_within(machine, order, most):
 
 
 def parting_of(answers):
-    """At which word a machine that agrees may have another value with the fewest states, and its forced prefixes.
+    """At which word a machine that agrees may part from the first series of the space with the fewest states.
 
-    It is for answers that leave a single series of the least size.
+    A tuple of the word and its forced prefixes, all words before it being known.
     """
     order, latest = answers.order, answers.order.latest
     front = back = middle = ""
@@ -136,10 +130,10 @@ def parting_of(answers):
 
 
 def parted(answers, machine, word, forced):
-    """A machine with the same values before the word, but with one more there.
+    """A machine with the same values as this one before the word, but with one more there.
 
-    The machine that is passed has the only series of the least size. At the word, the forced prefixes come into
-    the basis.
+    The machine that is passed has the first series of the space; the basis words and the forced prefixes of the word
+    become the states.
     """
     field = answers.field
     states = [*answers.basis, *forced]
@@ -177,15 +171,15 @@ def rest_row(answers, owner):
 
 def longer_ways(field, ways, most):
     """The same answers with each next one that stays within the bound, ascending."""
+    sure = [known.is_sure(most) for known in ways]
+    # Each of the longer ways leads to another series.
+    if sum([1 if is_sure else field.prime for is_sure in sure]) > MOST_SERIES:
+        raise TooMany(MOST_SERIES)
     longer = []
-    for at, known in enumerate(ways):
-        is_sure, number = known.is_sure(most), known.forced_number()
-        many = 1 if is_sure else field.prime
-        # Each of the ways leads to another series.
-        if len(longer) + many + len(ways) - at - 1 > MOST_SERIES:
-            raise TooMany(MOST_SERIES)
-        for step in range(many):
+    for known, is_sure in zip(ways, sure):
+        numbers = [known.forced_number()] if is_sure else list(range(field.prime))
+        for number in numbers:
             more = known.copied()
-            more.take(number if is_sure else step)
+            more.take(number)
             longer.append(more)
     return longer

@@ -1,7 +1,8 @@
 """Open words: at which machines with few states may part from a series with which they agree before."""
 
 from firstanswers.echelons import Echelon
-from firstanswers.least import independent_words, telling_columns
+from firstanswers.fields import Modulo
+from firstanswers.least import LOOKED_THROUGH, independent_words, telling_columns
 from firstanswers.tables import primitive, whole_dot
 
 # More letters than any open word has.
@@ -13,15 +14,28 @@ def first_pairs(machine, order):
     field, turned = machine.field, machine.turned()
     rows = independent_words(machine, order.costs, telling_columns(machine), False)
     columns = independent_words(turned, order.costs, telling_columns(turned), True)
+    # What rows and columns have for bottoms does not matter here.
+    lines, others = [tops for tops, _ in rows.values()], [tops for tops, _ in columns.values()]
+    places = list(range(len(lines)))
+    # What is independent modulo a prime is independent over the fractions, too, so that no place can be an earlier one.
+    if field.prime is not None or leading_places(Modulo(LOOKED_THROUGH), lines, others) != places:
+        places = leading_places(field, lines, others)
     words = list(columns)
-    echelon = Echelon(field, len(words))
-    pairs = {}
-    for word, (tops, _) in rows.items():
-        values = [whole_dot(field, tops, others) for others, _ in columns.values()]
-        # What a word has for a bottom does not matter here.
+    return {word: words[place] for word, place in zip(rows, places)}
+
+
+def leading_places(field, lines, others):
+    """For each line, up to which one of the others its products with them are not a combination of earlier ones.
+
+    None for a line with which all products are a combination.
+    """
+    echelon = Echelon(field, len(others))
+    places = []
+    for line in lines:
+        values = [whole_dot(field, line, other) for other in others]
         numbers, _ = primitive(field, (values, 1))
-        pairs[word] = words[echelon.first_place(numbers)]
-    return pairs
+        places.append(echelon.first_place(numbers))
+    return places
 
 
 def forced_prefixes_of(pairs, word):

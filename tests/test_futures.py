@@ -8,16 +8,16 @@ from firstanswers.errors import InvalidCount, InvalidWord, NotFinite, OtherLette
 from firstanswers.fields import Fractions, Modulo
 from firstanswers.futures import enough, is_open, last_open, late_machine, latest_needed, open_words, other_machine
 from firstanswers.futures import other_size, within
-from firstanswers.least import is_alike, is_normal, least, size_of
+from firstanswers.least import LOOKED_THROUGH, is_alike, is_normal, least, size_of
 from firstanswers.machines import Machine
 from firstanswers.orders import Order
 from firstanswers.spaces import Space
 from plain import FIELDS, all_machines, first_listed, random_machine, random_number
-from support import Checks, any_values, is_plain_integer, is_word
+from support import Checks, all_words, any_values, is_plain_integer, is_word
 from test_answers import random_answers
 from test_least import counts_machine
 
-MODULO_2, MODULO_3 = Modulo(2), Modulo(3)
+MODULO_2, MODULO_3, MODULO_7 = Modulo(2), Modulo(3), Modulo(7)
 # A field, an order and a number of states, of which all machines can be looked at.
 SMALL = [
     (MODULO_2, Order("a"), 3), (MODULO_3, Order("a", a=4), 2), (MODULO_2, Order("ab"), 2), (MODULO_2, Order("ab", a=2), 2),
@@ -72,11 +72,10 @@ def some_taught(seed, many, most_needed):
             yield machine, order, most
 
 
-def plain_open(machine, order, most):
-    """The open words, by the answers to all words before each."""
-    many = latest_needed(order, most)
+def plain_open(machine, order, most, many):
+    """The open words up to the one with this number, by the answers to all words before each."""
     found = []
-    for count, word in enumerate(first_listed(order, many + 5)):
+    for count, word in enumerate(first_listed(order, many + 1)):
         answers = Answers.of(machine, order, count)
         forced = answers.forced()
         if answers.size + (forced[1] if forced else 0) <= most:
@@ -195,7 +194,7 @@ class OtherTests(Checks, unittest.TestCase):
 class OpenTests(Checks, unittest.TestCase):
     def test_against_the_answers_before(self):
         for machine, order, most in some_taught(1, 120, 55):
-            found = plain_open(machine, order, most)
+            found = plain_open(machine, order, most, latest_needed(order, most) + 4)
             self.assert_same(list(open_words(machine, order, most)), found)
             self.assert_same(last_open(machine, order, most), found[-1] if found else None)
             for word in first_listed(order, latest_needed(order, most) + 5):
@@ -209,6 +208,19 @@ class OpenTests(Checks, unittest.TestCase):
                 found = [words[count] for count in sorted(counts)]
                 self.assert_same(list(open_words(machine=machine, order=order, most=most)), found)
                 self.assert_same(last_open(order=order, most=most, machine=machine), found[-1] if found else None)
+
+    def test_numbers_that_a_prime_divides(self):
+        # Modulo the prime that the program looks through, the first rows would have other columns.
+        prime = LOOKED_THROUGH
+        for ends in ([prime, 1, 0], [0, prime, 1], [1, prime, 2 * prime], [prime, 0, prime], [(1, prime), 1, prime]):
+            for row in ([0, 0, 0], [1, prime, 0], [prime, 1, 2]):
+                machine = Machine(Fractions(), "ab", [1, 0, 0], {"a": [[0, 1, 0], [0, 0, 1], row], "b": [[0] * 3] * 3}, ends)
+                for order in (Order("ab", b=9), Order("ab")):
+                    for most in (size_of(machine), 3):
+                        many = min(latest_needed(order, most), 60)
+                        words = plain_open(machine, order, most, many)
+                        found = [word for word in open_words(machine, order, most) if order.number_of(word) <= many]
+                        self.assert_same(found, words)
 
     def test_alike_machines(self):
         chance = random.Random(2)
@@ -262,6 +274,28 @@ class OpenTests(Checks, unittest.TestCase):
         for _ in range(150):
             word = "".join(chance.choices("aaab", k=chance.randint(0, 24)))
             self.assertIs(is_open(machine, order, word, 12), word in found)
+
+    def test_some_more_states(self):
+        chance = random.Random(8)
+        for size, longest, many in ((4, 7, 10), (5, 9, 2)):
+            for _ in range(many):
+                field, order = chance.choice([MODULO_2, Modulo(5)]), some_orders("ab", chance)
+                machine = Machine.zero(field, "ab")
+                while size_of(machine) < size:
+                    machine = random_machine(field, "ab", size, chance)
+                words = [word for word in all_words("ab", longest) if is_open(machine, order, word, size)]
+                self.assert_same(list(open_words(machine, order, size)), order.sorted_words(*words))
+
+    def test_all_of_24_states(self):
+        chance = random.Random(9)
+        for costs in ({}, {"a": 9, "b": 9, "c": 9, "d": 9}, {"a": 9, "b": 6, "d": 3}, {"d": 8}):
+            order = Order("abcd", **costs)
+            machine = random_machine(Modulo(999999937), "abcd", 24, chance)
+            found = list(open_words(machine, order, 24))
+            self.assertEqual(found, order.sorted_words(*found))
+            self.assertEqual(last_open(machine, order, 24), found[-1])
+            for word in chance.sample(found, 20):
+                self.assertIs(is_open(machine, order, word, 24), True)
 
     def test_in_turn_and_left_early(self):
         counts, order = counts_machine(), Order("ab")
@@ -425,6 +459,13 @@ class WithinTests(Checks, unittest.TestCase):
                 self.assert_raises(TooMany, {"limit": 300}, within, answers, 20)
             else:
                 self.assertEqual(many, len(within(answers, 20)))
+    def test_301(self):
+        answers = Answers(MODULO_7, Order("a"), 5, 4, 4, 0, 1, 0, 0, 0, 1)
+        self.assert_raises(TooMany, {"limit": 300}, within, answers, 6)
+        # With one answer more, they are at most as many.
+        counts = [len(within(answers.with_more(number), 6)) for number in range(7)]
+        self.assertEqual(301, sum(counts))
+
     def test_200_and_201_words(self):
         order, other = Order("abcd", a=5, b=8, c=9, d=6), Order("abcd", b=7, d=5)
         self.assert_same([latest_needed(order, 2), latest_needed(other, 1)], [200, 201])

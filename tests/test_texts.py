@@ -114,8 +114,9 @@ class MachineTests(TextChecks, unittest.TestCase):
             self.assert_same(write_machine(found), text)
 
     def test_bent_texts(self):
-        texts = [write_machine(machine) for machine in self.machines() if machine.size < 3 and machine.letters == "ab"]
-        self.check_bent(texts)
+        chance = random.Random(2)
+        for field in (Fractions(), MODULO_7):
+            self.check_bent([write_machine(random_machine(field, "ab", size, chance)) for size in (0, 1, 2)])
 
     def lines(self):
         return "machine ab modulo 7\nstart 1 0\na 1 1 / 0 1\nb 1 0 / 0 1\nends 0 1".split("\n")
