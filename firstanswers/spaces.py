@@ -66,7 +66,7 @@ class Space:
         normal = least(machine, self._answers.order)
         if normal.size != len(self._basis):
             return None
-        tables, places = normal.tables, self._places()
+        tables, places = normal.tables, self._basis_places()
         return tuple([tables[border[-1]][places[border[:-1]]][places[word]] for border, word in self._free])
 
     def forms(self):
@@ -111,13 +111,13 @@ class Space:
         if len(self._basis) > MOST_STATES:
             raise TooMany(MOST_STATES)
 
-    def _places(self):
+    def _basis_places(self):
         """From the basis words to their positions."""
         return {word: at for at, word in enumerate(self._basis)}
 
     def _made(self, coordinates):
         """The normal form with numbers for the free pairs, which are not looked at again."""
-        size, places = len(self._basis), self._places()
+        size, places = len(self._basis), self._basis_places()
         wanted = {border: {} for border in self._borders}
         for (border, word), number in zip(self._free, coordinates):
             wanted[border][word] = number

@@ -205,6 +205,27 @@ class LanguageTests(unittest.TestCase):
             for handler in nodes(tree, ast.ExceptHandler):
                 self.assertIn(getattr(handler.type, "id", ""), ("KeyError", "ZeroDivisionError", "NoQuotient", "InvalidText"))
 
+    def test_finally_only_assigns(self):
+        allowed = (ast.Assign, ast.If, ast.Pass, ast.Tuple, ast.Attribute, ast.Name, ast.Compare, ast.Is, ast.IsNot, ast.Constant,
+                   ast.Load, ast.Store)
+        for _, _, tree in self.each():
+            for attempt in nodes(tree, ast.Try):
+                for statement in attempt.finalbody:
+                    for node in ast.walk(statement):
+                        self.assertIsInstance(node, allowed)
+
+    def test_names_of_properties_methods_and_attributes(self):
+        properties, methods, attributes = set(), set(), set()
+        for _, _, tree in self.each():
+            for made in nodes(tree, ast.ClassDef):
+                for node in made.body:
+                    if isinstance(node, ast.FunctionDef):
+                        is_property = "property" in [getattr(decorator, "id", "") for decorator in node.decorator_list]
+                        (properties if is_property else methods).add(node.name)
+            attributes |= {node.attr for node in nodes(tree, ast.Attribute) if isinstance(node.ctx, ast.Store)}
+        self.assertEqual([set(), set(), set()], [properties & methods, properties & attributes, methods & attributes])
+        self.assertEqual(set(), (properties | attributes) & (METHODS - {"count", "index", "find", "get", "copy", "add"}))
+
     def test_generators_are_iterated_at_once(self):
         generators, functions = [], []
         for _, _, tree in self.each():
